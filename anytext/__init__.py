@@ -1,0 +1,1 @@
+"""Anytext: programs on texts and exact claims about them."""

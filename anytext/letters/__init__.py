@@ -1,0 +1,1 @@
+"""Letters, alphabets and texts."""

@@ -1,0 +1,1 @@
+"""Patterns: terms that describe sets of texts."""
