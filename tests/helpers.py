@@ -2,7 +2,8 @@
 
 import random
 
-from anytext.letters.alphabet import texts_of
+from anytext.letters.alphabet import order_key, texts_of
+from anytext.machines.machine import Machine
 
 LEAF_KINDS = ("none", "empty", "one")
 ONE_PART = ("not", "star")
@@ -68,3 +69,50 @@ def reason(call, *arguments):
     except ValueError as error:
         return (type(error), error.what)
     return None
+
+
+def least_texts(machine):
+    """For each state that some text leads to, the least one, in the order of these texts."""
+    found = {0: ""}
+    texts = [""]
+    while texts:
+        longer = sorted([text + letter for text in texts for letter in machine.letters],
+                        key=lambda text: order_key(machine.letters, text))
+        texts = []
+        for text in longer:
+            if machine.run(text) not in found:
+                found[machine.run(text)] = text
+                texts.append(text)
+    return found
+
+
+def pairs_that_differ(machine):
+    """The pairs of states behind which different texts are accepted."""
+    states = range(len(machine.accepting))
+    pairs = {(one, other) for one in states for other in states
+             if machine.accepting[one] != machine.accepting[other]}
+    while True:
+        more = {(one, other) for one in states for other in states
+                if any(pair in pairs for pair in zip(machine.table[one], machine.table[other]))}
+        if more <= pairs:
+            return pairs
+        pairs |= more
+
+
+def is_least(machine):
+    """Point 3.2, word by word: no state more than needed, and all of them in order."""
+    states = list(range(len(machine.accepting)))
+    differ = pairs_that_differ(machine)
+    return list(least_texts(machine)) == states and all(
+        (one, other) in differ for one in states for other in states if one != other)
+
+
+def accepted(machine, length):
+    """The accepted texts of up to this length."""
+    return [text for text in texts_up_to(machine.letters, length) if machine.accepts(text)]
+
+
+def random_machine(rng, letters, states):
+    """A machine with so many states; some of them may be of no use."""
+    return Machine(letters, [rng.random() < 0.4 for _ in range(states)],
+                   [[rng.randrange(states) for _ in letters] for _ in range(states)])

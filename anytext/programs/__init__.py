@@ -1,0 +1,1 @@
+"""Books, and programs on texts."""
