@@ -25,7 +25,7 @@ def chained_texts(first, second):
 def repetition(machine):
     """Returns the machine of the empty text and the texts that are several accepted ones."""
 
-    # Nothing was read in front of the lot that is empty; it is the lot of the empty text.
+    # The empty lot stands for the beginning, where nothing was read yet; no letter leads back to it.
     def step(lot, index):
         after = _after(machine, lot or (0,), index)
         return _lot(after + [0] if _accepts_one(machine, after) else after)
