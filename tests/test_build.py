@@ -1,14 +1,12 @@
-"""Points 2.1 and 3.2: the machines of patterns, and what they are made with."""
+"""Points 0.2, 2.1 and 3.2: the machines of patterns."""
 
 import unittest
 
 from anytext.machines.build import machine_of
-from anytext.machines.combine import both, either, opposite
-from anytext.machines.lots import chained_texts, repetition
-from anytext.machines.machine import Machine
+from anytext.machines.search import parting
 from anytext.patterns.meaning import belongs
 from anytext.patterns.reader import read_pattern
-from helpers import accepted, is_least, random_machine, random_pattern, seeded, texts_up_to
+from helpers import accepted, is_least, random_pattern, seeded, texts_up_to
 
 A = ("one", "a")
 
@@ -90,55 +88,35 @@ class MachineOfTest(unittest.TestCase):
         self.assertEqual(pattern, read_pattern("ab", "!(ab)*|b"))
 
 
-class PartsTest(unittest.TestCase):
-    """The machines with which those of patterns are made, for machines that are not least."""
+class SameTextsTest(unittest.TestCase):
+    """Two patterns with the same texts have machines with the same picture."""
 
-    def setUp(self):
-        rng = seeded(13)
-        self.pairs = [(random_machine(rng, letters, rng.randint(1, 5)), random_machine(rng, letters, rng.randint(1, 5)))
-                      for letters in ("a", "ba", "cab") for _ in range(40)]
+    def same(self, letters, *notations):
+        machines = [machine_of(letters, read_pattern(letters, notation)) for notation in notations]
+        for machine in machines:
+            self.assertEqual(machine.picture(), machines[0].picture())
+            self.assertIsNone(parting(machine, machines[0]))
+            self.assertIsNone(parting(machines[0], machine))
 
-    def holds(self, machine, told):
-        texts = texts_up_to(machine.letters, 5)
-        self.assertEqual(accepted(machine, 5), [text for text in texts if told(text)])
-        self.assertTrue(is_least(machine))
+    def test_the_same_texts(self):
+        self.same("ab", "(a|b)*", ".*", "(a*b*)*", "!([])", "(a*b)*a*", "!(a&b)")
+        self.same("ba", "!(.*aa.*)", "(b|ab)*a?", "b*(ab+)*a?", "(b*ab)*b*|(b*ab)*b*a")
+        self.same("cab", "!(.*[^a].*)", "a*", "a**", "(aaa)*|a(aaa)*|(aaa)*aa", "!(!(a*))", "()|a+")
+        self.same("a", "(aa|aaa)*", "!a", "a{2}a*|()", "()|aaa*")
+        self.same("ab", "[]", "a&b", "[]*a[]", "!(.*)", "a[]", ".*&!(.*)")
+        self.same("ab", "a{2,4}", "aa|aaa|aaaa", "aa(a?a?)", "a?aaa?")
 
-    def test_both(self):
-        for first, second in self.pairs:
-            self.holds(both(first, second), lambda text: first.accepts(text) and second.accepts(text))
-
-    def test_either(self):
-        for first, second in self.pairs:
-            self.holds(either(first, second), lambda text: first.accepts(text) or second.accepts(text))
-
-    def test_opposite(self):
-        for first, _ in self.pairs:
-            self.holds(opposite(first), lambda text: not first.accepts(text))
-
-    def test_chained_texts(self):
-        for first, second in self.pairs:
-            self.holds(chained_texts(first, second), lambda text: any(
-                first.accepts(text[:place]) and second.accepts(text[place:]) for place in range(len(text) + 1)))
-
-    def test_repetition(self):
-        for machine, _ in self.pairs:
-            known = {"": True}
-            for text in texts_up_to(machine.letters, 5)[1:]:
-                known[text] = any(machine.accepts(text[:place]) and known[text[place:]]
-                                  for place in range(1, len(text) + 1))
-            self.holds(repetition(machine), lambda text: known[text])
-
-    def test_no_text_and_all_texts(self):
-        nothing = Machine("ab", [False], [[0, 0]])
-        everything = Machine("ab", [True], [[0, 0]])
-        self.assertEqual(repetition(nothing).picture(), ("ab", (True, False), ((1, 1), (1, 1))))
-        self.assertEqual(repetition(everything).picture(), everything.picture())
-        self.assertEqual(chained_texts(nothing, everything).picture(), nothing.picture())
-        self.assertEqual(chained_texts(everything, nothing).picture(), nothing.picture())
-        self.assertEqual(chained_texts(everything, everything).picture(), everything.picture())
-        self.assertEqual(opposite(nothing).picture(), everything.picture())
-        self.assertEqual(both(nothing, everything).picture(), nothing.picture())
-        self.assertEqual(either(nothing, everything).picture(), everything.picture())
+    def test_other_texts(self):
+        rng = seeded(15)
+        for letters in ("a", "ba", "cab"):
+            patterns = [random_pattern(rng, letters, 3) for _ in range(25)]
+            machines = [machine_of(letters, pattern) for pattern in patterns]
+            for one, first in zip(patterns, machines):
+                for other, second in zip(patterns, machines):
+                    text = parting(first, second)
+                    self.assertEqual(text is None, first.picture() == second.picture())
+                    if text is not None:
+                        self.assertNotEqual(belongs(one, text), belongs(other, text))
 
 
 if __name__ == "__main__":

@@ -1,6 +1,9 @@
-"""Machines of the texts that two machines accept together. All of them are least machines."""
+"""Machines of the texts that two machines accept together, or that lead to or from a state.
 
-from anytext.machines.least import least, least_explored
+All of them are least machines.
+"""
+
+from anytext.machines.least import least, least_explored, least_from
 from anytext.machines.machine import Machine
 
 
@@ -14,9 +17,24 @@ def either(first, second):
     return _paired(first, second, lambda one, other: one or other)
 
 
+def minus(first, second):
+    """Returns the machine of the texts that the first accepts and the second does not."""
+    return _paired(first, second, lambda one, other: one and not other)
+
+
 def opposite(machine):
     """Returns the machine of the texts that the machine does not accept."""
     return least(Machine(machine.letters, [not accepting for accepting in machine.accepting], machine.table))
+
+
+def until(machine, state):
+    """Returns the machine of the texts that lead from state 0 to the state."""
+    return least(Machine(machine.letters, [other == state for other in range(len(machine.table))], machine.table))
+
+
+def since(machine, state):
+    """Returns the machine of the texts that lead from the state to an accepting one."""
+    return least_from(machine, state)
 
 
 def _paired(first, second, chosen):

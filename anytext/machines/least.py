@@ -3,13 +3,19 @@
 from anytext.machines.blocks import Blocks
 from anytext.machines.explore import explored
 from anytext.machines.machine import Machine
+from anytext.machines.ways import ways_back
 
 
 def least(machine):
     """Returns the least machine of the texts that the machine accepts."""
+    return least_from(machine, 0)
+
+
+def least_from(machine, start):
+    """Returns the least machine of the texts that lead from the state `start` to an accepting state."""
     return least_explored(
         machine.letters,
-        0,
+        start,
         lambda state, index: machine.table[state][index],
         lambda state: machine.accepting[state],
     )
@@ -47,7 +53,7 @@ def _stable_blocks(machine):
         if accepting:
             blocks.mark(state)
     blocks.cut()
-    sources = [_sources(machine, index) for index in range(len(machine.letters))]
+    sources = [sources_by(machine, index) for index in range(len(machine.letters))]
     waiting = list(range(len(blocks.starts)))
     while waiting:
         # A letter leads from a state to one goal only, so no state is marked twice before the cut.
@@ -60,9 +66,6 @@ def _stable_blocks(machine):
     return blocks
 
 
-def _sources(machine, index):
+def sources_by(machine, index):
     """Returns for each state the states from which the letter with this index leads to it."""
-    found = [[] for _ in machine.table]
-    for state, row in enumerate(machine.table):
-        found[row[index]].append(state)
-    return found
+    return ways_back([[row[index]] for row in machine.table])

@@ -3,7 +3,24 @@
 All machines that are returned are least machines.
 """
 
-from anytext.machines.least import least_explored
+from anytext.machines.least import least, least_explored, sources_by
+
+
+def reversal(machine):
+    """Returns the machine of the accepted texts, each turned round."""
+    # States to which nothing leads would be in many lots for nothing.
+    small = least(machine)
+    sources = [sources_by(small, index) for index in range(len(small.letters))]
+
+    # A lot has the states from which all that was read, turned round, leads to an accepting state.
+    def step(lot, index):
+        return _lot([source for goal in lot for source in sources[index][goal]])
+
+    def accepts(lot):
+        return 0 in lot
+
+    start = _lot([state for state, accepting in enumerate(small.accepting) if accepting])
+    return least_explored(small.letters, start, step, accepts)
 
 
 def chained_texts(first, second):
