@@ -4,6 +4,7 @@ import random
 
 from anytext.letters.alphabet import order_key, texts_of
 from anytext.machines.machine import Machine
+from anytext.rewriters.rewriter import Rewriter
 
 LEAF_KINDS = ("none", "empty", "one")
 ONE_PART = ("not", "star")
@@ -116,3 +117,53 @@ def random_machine(rng, letters, states):
     """A machine with so many states; some of them may be of no use."""
     return Machine(letters, [rng.random() < 0.4 for _ in range(states)],
                    [[rng.randrange(states) for _ in letters] for _ in range(states)])
+
+
+def random_text(rng, letters, most):
+    """A text of up to so many letters."""
+    return "".join(rng.choice(letters) for _ in range(rng.randint(0, most)))
+
+
+def random_rewriter(rng, letters, states, refusing=0.15, most=2):
+    """A rewriter with so many states that writes at most so many letters at once."""
+    def perhaps(make):
+        return None if rng.random() < refusing else make()
+
+    def way():
+        return (rng.randrange(states), random_text(rng, letters, most))
+
+    return Rewriter(letters, random_text(rng, letters, most),
+                    [perhaps(lambda: random_text(rng, letters, most)) for _ in range(states)],
+                    [[perhaps(way) for _ in letters] for _ in range(states)])
+
+
+def plainly_rewritten(rewriter, text):
+    """Point 4.1, word by word, from the picture of the rewriter."""
+    letters, written, finals, table = rewriter.picture()
+    state = 0
+    for letter in text:
+        way = table[state][letters.index(letter)]
+        if way is None:
+            return None
+        state = way[0]
+        written += way[1]
+    return None if finals[state] is None else written + finals[state]
+
+
+def renumbered(rng, machine):
+    """A machine that is the same but for the numbers of its states other than 0."""
+    states = list(range(1, len(machine.accepting)))
+    order = [0] + rng.sample(states, len(states))
+    numbers = {state: number for number, state in enumerate(order)}
+    return Machine(machine.letters, [machine.accepting[state] for state in order],
+                   [[numbers[after] for after in machine.table[state]] for state in order])
+
+
+def doubled(machine):
+    """A machine with each state twice, of which the letters lead to one or the other by turns."""
+    states = len(machine.accepting)
+    table = []
+    for shift in (0, 1):
+        for row in machine.table:
+            table.append([after + states * ((index + shift) % 2) for index, after in enumerate(row)])
+    return Machine(machine.letters, machine.accepting * 2, table)

@@ -6,15 +6,15 @@ from anytext.errors import BadAlphabet, BadName, ProgramError, UnknownName
 from anytext.machines.build import machine_of
 from anytext.patterns.reader import read_pattern
 from anytext.programs.book import Book, is_name
+from anytext.rewriters.rewriter import Rewriter
 from helpers import reason
 
 WORDS = ("turn", "rewrite", "if", "in", "then", "else", "need", "give")
 STAR = read_pattern("ab", "a*")
 PAIRS = read_pattern("ab", "(ab)*")
 
-# A book only keeps its rewriters, whatever they are.
-REWRITER = ("a rewriter",)
-OTHER = ("another one",)
+REWRITER = Rewriter("ab", "", [""], [[(0, "aa"), (0, "b")]])
+OTHER = Rewriter("ab", "b", ["", None], [[(1, "a"), None], [(0, ""), (1, "b")]])
 
 
 class NameTest(unittest.TestCase):
@@ -62,8 +62,15 @@ class BookTest(unittest.TestCase):
         self.assertEqual(book.machine("star").picture(), ("bac", (True, False), ((1, 0, 1), (1, 1, 1))))
 
     def test_rewriters(self):
-        self.assertEqual(self.book.rewriter("more"), REWRITER)
-        self.assertEqual(self.book.rewriter("same"), OTHER)
+        self.assertEqual(self.book.rewriter("more").picture(), REWRITER.picture())
+        self.assertEqual(self.book.rewriter("same").picture(), OTHER.picture())
+        self.assertEqual([self.book.rewriter("more").rewrite("ab"), self.book.rewriter("same").rewrite("ab")],
+                         ["aab", None])
+
+    def test_a_pattern_and_a_rewriter_of_the_same_name(self):
+        self.assertTrue(self.book.machine("same").accepts("abab"))
+        self.assertFalse(self.book.machine("same").accepts("aa"))
+        self.assertEqual(self.book.rewriter("same").rewrite("aa"), "ba")
 
     def test_unknown_names(self):
         for name in ("more", "none", "", "turn", "A"):
@@ -95,7 +102,7 @@ class BookTest(unittest.TestCase):
         self.assertEqual(book.machine("star").picture(), machine_of("ab", STAR).picture())
         self.assertFalse(book.has_pattern("new"))
         self.assertFalse(book.has_rewriter("new"))
-        self.assertEqual(book.rewriter("more"), REWRITER)
+        self.assertEqual(book.rewriter("more").rewrite("ab"), "aab")
 
     def test_what_is_passed_stays_as_it_was(self):
         patterns = {"z": STAR, "a": PAIRS}

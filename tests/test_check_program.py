@@ -6,9 +6,13 @@ from anytext.errors import BadName, BadText, NameTaken, ProgramError, TooMany, U
 from anytext.patterns.reader import read_pattern
 from anytext.programs.book import Book
 from anytext.programs.program import Program, check_program, names_given, names_read
+from anytext.rewriters.chain import in_turn
+from anytext.rewriters.rewriter import Rewriter
 from helpers import reason
 
-BOOK = Book("ab", {"good": read_pattern("ab", "a*"), "both": read_pattern("ab", "ab")}, {"more": None, "both": None})
+MORE = Rewriter("ab", "", [""], [[(0, "aa"), (0, "b")]])
+REFUSES = Rewriter("ab", "", [None], [[None, None]])
+BOOK = Book("ab", {"good": read_pattern("ab", "a*"), "both": read_pattern("ab", "ab")}, {"more": MORE, "both": REFUSES})
 
 COPY = ("join", "y", (("name", "x"),))
 
@@ -201,6 +205,35 @@ class LinesTest(CheckTest):
                      ("choose", "y", "y", "good", "x", "x")):
             self.line_fault(line, NameTaken, "y", before=[("need", "x", "good"), COPY])
         self.line_fault(("turn", "z", "x"), NameTaken, "z", inputs=("x", "z"))
+
+
+class RealBooksTest(unittest.TestCase):
+    """Books with patterns and rewriters, some of the same name."""
+
+    LINES = [("rewrite", "y", "one", "x"), ("choose", "z", "y", "two", "x", "y"), ("need", "z", "two")]
+
+    def checked(self, patterns, rewriters, lines=None):
+        book = Book("ab", {name: read_pattern("ab", "a*b") for name in patterns},
+                    {name: in_turn(MORE, MORE) for name in rewriters})
+        return reason(check_program, book, Program(["x"], self.LINES if lines is None else lines, "x"))
+
+    def test_in_order(self):
+        self.assertIsNone(self.checked(["two"], ["one"]))
+        self.assertIsNone(self.checked(["one", "two"], ["one", "two"]))
+        self.assertIsNone(self.checked(["x", "y"], ["x"], [("rewrite", "y", "x", "x"), ("need", "y", "x")]))
+
+    def test_a_pattern_where_a_rewriter_is_due(self):
+        self.assertEqual(self.checked(["one", "two"], ["two"]), (UnknownName, "one"))
+        self.assertEqual(self.checked(["one", "two"], []), (UnknownName, "one"))
+
+    def test_a_rewriter_where_a_pattern_is_due(self):
+        self.assertEqual(self.checked(["one"], ["one", "two"]), (UnknownName, "two"))
+        self.assertEqual(self.checked([], ["one", "two"], self.LINES[:2]), (UnknownName, "two"))
+        self.assertEqual(self.checked([], ["one", "two"], [("need", "x", "two")]), (UnknownName, "two"))
+
+    def test_a_rewriter_that_refuses_all_texts_is_in_order(self):
+        book = Book("ab", {}, {"no": REFUSES})
+        self.assertIsNone(check_program(book, Program(["x"], [("rewrite", "y", "no", "x")], "y")))
 
 
 class TwoFaultsTest(CheckTest):

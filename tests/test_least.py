@@ -4,26 +4,7 @@ import unittest
 
 from anytext.machines.least import least
 from anytext.machines.machine import Machine
-from helpers import accepted, is_least, random_machine, seeded
-
-
-def renumbered(rng, machine):
-    """A machine that is the same but for the numbers of its states other than 0."""
-    states = list(range(1, len(machine.accepting)))
-    order = [0] + rng.sample(states, len(states))
-    numbers = {state: number for number, state in enumerate(order)}
-    return Machine(machine.letters, [machine.accepting[state] for state in order],
-                   [[numbers[after] for after in machine.table[state]] for state in order])
-
-
-def doubled(machine):
-    """A machine with each state twice, of which the letters lead to one or the other by turns."""
-    states = len(machine.accepting)
-    table = []
-    for shift in (0, 1):
-        for row in machine.table:
-            table.append([after + states * ((index + shift) % 2) for index, after in enumerate(row)])
-    return Machine(machine.letters, machine.accepting * 2, table)
+from helpers import accepted, doubled, is_least, random_machine, renumbered, seeded
 
 
 class LeastTest(unittest.TestCase):

@@ -23,7 +23,10 @@ class Machine:
 
     def run(self, text):
         """Returns the state behind the text."""
-        state = 0
+        return self.run_from(0, text)
+
+    def run_from(self, state, text):
+        """Returns the state behind the text, read from this state on."""
         for letter in text:
             state = self.table[state][self.letters.index(letter)]
         return state

@@ -1,0 +1,1 @@
+"""Rewriters that make texts out of texts."""
