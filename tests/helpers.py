@@ -167,3 +167,79 @@ def doubled(machine):
         for row in machine.table:
             table.append([after + states * ((index + shift) % 2) for index, after in enumerate(row)])
     return Machine(machine.letters, machine.accepting * 2, table)
+
+
+def renumbered_rewriter(rng, rewriter):
+    """A rewriter that is the same but for the numbers of its states other than 0."""
+    states = list(range(1, len(rewriter.finals)))
+    order = [0] + rng.sample(states, len(states))
+    numbers = {state: number for number, state in enumerate(order)}
+    return Rewriter(rewriter.letters, rewriter.lead, [rewriter.finals[state] for state in order],
+                    [[None if way is None else (numbers[way[0]], way[1]) for way in rewriter.table[state]]
+                     for state in order])
+
+
+def doubled_rewriter(rewriter):
+    """A rewriter with each state twice, of which the letters lead to one or the other by turns."""
+    states = len(rewriter.finals)
+    table = []
+    for shift in (0, 1):
+        for row in rewriter.table:
+            table.append([None if way is None else (way[0] + states * ((index + shift) % 2), way[1])
+                          for index, way in enumerate(row)])
+    return Rewriter(rewriter.letters, rewriter.lead, rewriter.finals * 2, table)
+
+
+def with_lost_states(rng, rewriter):
+    """A rewriter with two more states that only refuse, to which some letters lead that had nothing."""
+    states = len(rewriter.finals)
+
+    def way_to_lost():
+        return rng.choice([None, (states, random_text(rng, rewriter.letters, 2)),
+                           (states + 1, random_text(rng, rewriter.letters, 2))])
+
+    table = [[way_to_lost() if way is None else way for way in row] for row in rewriter.table]
+    table += [[way_to_lost() for _ in rewriter.letters] for _ in range(2)]
+    return Rewriter(rewriter.letters, rewriter.lead, rewriter.finals + (None, None), table)
+
+
+def held_back(rewriter, many):
+    """A rewriter that does the same, but always keeps the last letters, up to so many, to write them later."""
+    def split(text):
+        place = max(0, len(text) - many)
+        return text[:place], text[place:]
+
+    lead, kept = split(rewriter.lead)
+    keys, finals, table = [(0, kept)], [], []
+    while len(table) < len(keys):
+        state, kept = keys[len(table)]
+        row = []
+        for way in rewriter.table[state]:
+            if way is None:
+                row.append(None)
+                continue
+            now, later = split(kept + way[1])
+            if (way[0], later) not in keys:
+                keys.append((way[0], later))
+            row.append((keys.index((way[0], later)), now))
+        final = rewriter.finals[state]
+        finals.append(None if final is None else kept + final)
+        table.append(row)
+    return Rewriter(rewriter.letters, lead, finals, table)
+
+
+def variants(rng, rewriter):
+    """Rewriters that do the same, each in another way."""
+    first = [renumbered_rewriter(rng, rewriter), doubled_rewriter(rewriter), with_lost_states(rng, rewriter),
+             held_back(rewriter, 1), held_back(rewriter, 2)]
+    return first + [renumbered_rewriter(rng, doubled_rewriter(with_lost_states(rng, held_back(rewriter, 1))))]
+
+
+def shared_beginning(texts):
+    """The longest common beginning, letter by letter."""
+    found = ""
+    for letters in zip(*texts):
+        if len(set(letters)) > 1:
+            break
+        found += letters[0]
+    return found

@@ -1,6 +1,50 @@
 """Blocks of states: a partition that becomes finer and finer."""
 
 
+def block_numbers(kinds, sources):
+    """Returns for each state the number of its block, in the coarsest partition that keeps the kinds apart.
+
+    `kinds` has a key for each state. `sources` has for each letter and each state the states from which the
+    letter leads to it. States of a block have the same kind, and each letter leads from all of them to states
+    of one block, or from none of them anywhere.
+    The blocks are numbered in the order of their first states.
+    """
+    blocks = _blocks_of_kinds(kinds)
+    waiting = list(range(len(blocks.starts)))
+    while waiting:
+        # A letter leads from a state to one goal only, so no state is marked twice before the cut.
+        goals = blocks.states_in(waiting.pop())
+        for sources_of in sources:
+            for goal in goals:
+                for source in sources_of[goal]:
+                    blocks.mark(source)
+            waiting.extend(blocks.cut())
+    numbers = {}
+    return [numbers.setdefault(block, len(numbers)) for block in blocks.block_of]
+
+
+def first_states(numbers):
+    """Returns the first state of each block; `numbers` tells the block of each state."""
+    found = []
+    for state, number in enumerate(numbers):
+        if number == len(found):
+            found.append(state)
+    return found
+
+
+def _blocks_of_kinds(kinds):
+    """Returns the blocks of the states of each kind."""
+    lots = {}
+    for state, kind in enumerate(kinds):
+        lots.setdefault(kind, []).append(state)
+    blocks = Blocks(len(kinds))
+    for kind in lots:
+        for state in lots[kind]:
+            blocks.mark(state)
+        blocks.cut()
+    return blocks
+
+
 class Blocks:
     """The states 0 to `many` - 1, at first in one block.
 
