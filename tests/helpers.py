@@ -1,9 +1,11 @@
 """What several tests need: plain second ways to tell the same things."""
 
+import itertools
 import random
 
 from anytext.letters.alphabet import order_key, texts_of
 from anytext.machines.machine import Machine
+from anytext.programs.program import Program
 from anytext.rewriters.rewriter import Rewriter
 
 LEAF_KINDS = ("none", "empty", "one")
@@ -243,3 +245,56 @@ def shared_beginning(texts):
             break
         found += letters[0]
     return found
+
+
+def plainly_run(patterns, rewriters, program, inputs):
+    """Point 5.2, word by word: the answer, and the names with their texts."""
+    texts = dict(zip(program.inputs, inputs))
+    for index, line in enumerate(program.lines):
+        kind, rest = line[0], line[1:]
+        if kind == "join":
+            made = "".join(text if sort == "text" else texts[text] for sort, text in rest[1])
+        elif kind == "turn":
+            made = "".join(reversed(texts[rest[1]]))
+        elif kind == "rewrite":
+            made = plainly_rewritten(rewriters[rest[1]], texts[rest[2]])
+        elif kind == "choose":
+            made = texts[rest[3] if plainly_belongs(patterns[rest[2]], texts[rest[1]]) else rest[4]]
+        else:
+            made = None if not plainly_belongs(patterns[rest[1]], texts[rest[0]]) else ""
+        if made is None:
+            return ("refuses", index), list(texts.items())
+        if kind != "need":
+            texts[rest[0]] = made
+    return ("gives", texts[program.result]), list(texts.items())
+
+
+def random_program(rng, many, patterns, rewriters, inputs=3, parts=3):
+    """A program that is in order, with so many lines, and at most so many inputs and parts of a join."""
+    names = ["x", "y", "z"][:rng.randint(1, inputs)]
+    found, lines = tuple(names), []
+    for index in range(many):
+        name, kind = "abcdefghijkl"[index], rng.choice(("join", "join", "turn", "rewrite", "choose", "need"))
+        pattern = rng.choice(sorted(patterns))
+        if kind == "join":
+            some = [rng.choice((("text", rng.choice(("", "a", "ba"))), ("name", rng.choice(names)),
+                                ("name", rng.choice(names)))) for _ in range(rng.randint(1, parts))]
+            lines.append((kind, name, tuple(some)))
+        elif kind == "turn":
+            lines.append((kind, name, rng.choice(names)))
+        elif kind == "rewrite":
+            lines.append((kind, name, rng.choice(sorted(rewriters)), rng.choice(names)))
+        elif kind == "choose":
+            lines.append((kind, name, rng.choice(names), pattern, rng.choice(names), rng.choice(names)))
+        else:
+            lines.append((kind, rng.choice(names), pattern))
+        if kind != "need":
+            names.append(name)
+    return Program(found, lines, rng.choice(names[-2:]))
+
+
+def inputs_up_to(letters, many, total):
+    """All so many inputs with so many letters together at most, in the order of point 6.2."""
+    texts = texts_up_to(letters, total)
+    found = [inputs for inputs in itertools.product(texts, repeat=many) if sum(map(len, inputs)) <= total]
+    return sorted(found, key=lambda inputs: (sum(map(len, inputs)), [order_key(letters, text) for text in inputs]))

@@ -33,6 +33,10 @@ BARRED = set(
     "dir eval exec exit gc globals help id importlib license locals os quit vars sys".split())
 BARRED_WORDS = re.compile(
     r"\b(type|typing|enum|Enum|IntEnum|Flag|Generic|Protocol|ABC|namedtuple|NamedTuple|TypedDict)\b|dataclass|overload")
+# What L12 keeps from all names.
+BARRED_NAMES = re.compile(
+    r"(_wall|_pe_|_dcw_|_enum_|_cm_|_twin_re_|_lay_|_law_|_stub_|_sre|_WallAttr)"
+    r"|_(cold|tuplegetter|outside|record|written_out|member_names)[0-9_]*$")
 STATEMENTS = (
     ast.Assign, ast.AugAssign, ast.AnnAssign, ast.If, ast.While, ast.For, ast.Return, ast.Break, ast.Continue,
     ast.Pass, ast.Raise, ast.Assert, ast.Delete, ast.Nonlocal, ast.Match, ast.With, ast.Try, ast.Expr,
@@ -165,6 +169,7 @@ class LanguageTest(unittest.TestCase):
                 self.assertFalse(hasattr(builtins, name), f"{place} {name}")
                 self.assertNotIn(name, BARRED, place)
                 self.assertRegex(name, r"^_?[A-Za-z][A-Za-z0-9_]*$|^_$", place)
+                self.assertIsNone(BARRED_NAMES.match(name), place)
         for place, node in nodes(ast.Attribute):
             self.assertNotIn(node.attr, BARRED, place)
             self.assertFalse(node.attr.startswith("__"), place)

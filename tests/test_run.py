@@ -9,59 +9,14 @@ from anytext.programs.program import Program
 from anytext.programs.reader import read_program
 from anytext.programs.run import run, texts_on_the_way
 from anytext.rewriters.recipes import read_recipe
-from helpers import plainly_belongs, reason, seeded, texts_up_to
+from helpers import plainly_run, random_program, reason, seeded, texts_up_to
 
 NOTATIONS = {"some": "a*", "long": "..+", "nothing": "[]", "all": ".*", "both": "ab"}
 RECIPES = {"more": "letters a>aa", "noab": "replace ab by ()", "few": "only !(.*bb.*)", "both": "letters a>b b>a",
            "never": "only []"}
 PATTERNS = {name: read_pattern("ab", NOTATIONS[name]) for name in NOTATIONS}
-BOOK = Book("ab", PATTERNS, {name: read_recipe("ab", RECIPES[name]) for name in RECIPES})
-
-
-def plainly_run(program, inputs):
-    """Point 5.2, word by word, with the texts on the way."""
-    texts = dict(zip(program.inputs, inputs))
-    for index, line in enumerate(program.lines):
-        kind, rest = line[0], line[1:]
-        if kind == "join":
-            made = "".join(text if sort == "text" else texts[text] for sort, text in rest[1])
-        elif kind == "turn":
-            made = "".join(reversed(texts[rest[1]]))
-        elif kind == "rewrite":
-            made = BOOK.rewriter(rest[1]).rewrite(texts[rest[2]])
-        elif kind == "choose":
-            made = texts[rest[3] if plainly_belongs(PATTERNS[rest[2]], texts[rest[1]]) else rest[4]]
-        else:
-            made = None if not plainly_belongs(PATTERNS[rest[1]], texts[rest[0]]) else ""
-        if made is None:
-            return ("refuses", index), list(texts.items())
-        if kind != "need":
-            texts[rest[0]] = made
-    return ("gives", texts[program.result]), list(texts.items())
-
-
-def random_program(rng, many):
-    """A program that is in order, with so many lines."""
-    names = ["x", "y", "z"][:rng.randint(1, 3)]
-    inputs, lines = tuple(names), []
-    for index in range(many):
-        name, kind = "abcdefgh"[index], rng.choice(("join", "turn", "rewrite", "choose", "need"))
-        pattern = rng.choice(sorted(NOTATIONS))
-        if kind == "join":
-            parts = [rng.choice((("text", rng.choice(("", "a", "ba"))), ("name", rng.choice(names))))
-                     for _ in range(rng.randint(1, 3))]
-            lines.append((kind, name, tuple(parts)))
-        elif kind == "turn":
-            lines.append((kind, name, rng.choice(names)))
-        elif kind == "rewrite":
-            lines.append((kind, name, rng.choice(sorted(RECIPES)), rng.choice(names)))
-        elif kind == "choose":
-            lines.append((kind, name, rng.choice(names), pattern, rng.choice(names), rng.choice(names)))
-        else:
-            lines.append((kind, rng.choice(names), pattern))
-        if kind != "need":
-            names.append(name)
-    return Program(inputs, lines, rng.choice(names))
+REWRITERS = {name: read_recipe("ab", RECIPES[name]) for name in RECIPES}
+BOOK = Book("ab", PATTERNS, REWRITERS)
 
 
 class RunTest(unittest.TestCase):
@@ -132,12 +87,12 @@ class RunTest(unittest.TestCase):
     def test_random_programs(self):
         rng = seeded(120)
         for _ in range(150):
-            program = random_program(rng, rng.randint(0, 8))
+            program = random_program(rng, rng.randint(0, 8), PATTERNS, REWRITERS)
             before = program.picture()
             texts = texts_up_to("ab", 3)
             for _ in range(20):
                 inputs = [rng.choice(texts) for _ in program.inputs]
-                told, on_the_way = plainly_run(program, inputs)
+                told, on_the_way = plainly_run(PATTERNS, REWRITERS, program, inputs)
                 passed = list(inputs)
                 self.assertEqual(run(BOOK, program, inputs), told)
                 self.assertEqual(texts_on_the_way(BOOK, program, inputs), on_the_way)

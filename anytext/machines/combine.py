@@ -29,7 +29,15 @@ def opposite(machine):
 
 def until(machine, state):
     """Returns the machine of the texts that lead from state 0 to the state."""
-    return least(Machine(machine.letters, [other == state for other in range(len(machine.table))], machine.table))
+    return between(machine, 0, (state,))
+
+
+def between(machine, state, goals):
+    """Returns the machine of the texts that lead from the state to one of the goals."""
+    accepting = [False for _ in machine.table]
+    for goal in goals:
+        accepting[goal] = True
+    return least_from(Machine(machine.letters, accepting, machine.table), state)
 
 
 def since(machine, state):

@@ -1,0 +1,1 @@
+"""Claims about programs, and papers that show that they hold."""

@@ -1,0 +1,1 @@
+"""Workshops that keep named things under edits."""
