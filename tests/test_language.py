@@ -28,6 +28,11 @@ METHODS = set(
     "items join keys ljust lower lstrip partition pop remove replace reverse rfind rjust rpartition rsplit rstrip "
     "setdefault split splitlines startswith strip update upper values zfill bit_length sort add discard "
     "appendleft popleft".split())
+# The names of all that values of Python's own have; L25 lets no method of such a name be handed on.
+BUILTIN_KINDS = (
+    str, int, bool, float, complex, list, tuple, dict, set, frozenset, bytes, range, slice, BaseException, type(None),
+    type({}.keys()), type({}.values()), type({}.items()))
+BUILTIN_NAMES = {name for kind in BUILTIN_KINDS for name in dir(kind)}
 BARRED = set(
     "register mro elements open input law version_info with_traceback add_note breakpoint compile copyright delattr "
     "dir eval exec exit gc globals help id importlib license locals os quit vars sys".split())
@@ -75,6 +80,30 @@ def bound_names():
 def module_path(name):
     """The file of a module of the package."""
     return ROOT / (name.replace(".", "/") + ".py")
+
+
+def methods_of(trees):
+    """The names of all methods of the classes in the trees."""
+    classes = [node for tree in trees for node in ast.walk(tree) if isinstance(node, ast.ClassDef)]
+    return {part.name for node in classes for part in node.body if isinstance(part, ast.FunctionDef)}
+
+
+def handed_on(trees):
+    """What is read without a call under the name of a builtin value's method or attribute: file, line and name.
+
+    Off `self` only own things are read, so an own attribute may have such a name there, but no method of the package.
+    Elsewhere nobody can tell what it is that is read.
+    """
+    methods = methods_of(trees.values())
+    found = []
+    for path, tree in trees.items():
+        called = {id(node.func) for node in ast.walk(tree) if isinstance(node, ast.Call)}
+        for node in ast.walk(tree):
+            if isinstance(node, ast.Attribute) and isinstance(node.ctx, ast.Load) and id(node) not in called:
+                off_self = isinstance(node.value, ast.Name) and node.value.id == "self"
+                if node.attr in BUILTIN_NAMES and (node.attr in methods or not off_self):
+                    found.append((str(path), node.lineno, node.attr))
+    return sorted(found)
 
 
 class LanguageTest(unittest.TestCase):
@@ -192,6 +221,23 @@ class LanguageTest(unittest.TestCase):
             for part in node.body:
                 if isinstance(part, ast.FunctionDef) and part.name not in DOUBLE_UNDERSCORES:
                     self.assertNotIn(part.name, barred | METHODS, place)
+
+    def test_no_method_is_handed_on_under_a_builtin_name_l25(self):
+        self.assertEqual(handed_on(TREES), [])
+
+    def test_builtin_names_are_found_where_they_are_handed_on_l25(self):
+        box = ast.parse("class Box:\n    def low(self):\n        return self.n\n" + "".join(
+            f"    def {name}(self):\n        return 1\n" for name in ("step", "start", "stop", "count", "real")))
+        for taken in ("self.step", "box.step", "Box.stop", "self.start", "self.count", "box.real", "rows.append"):
+            name = taken.split(".")[1]
+            for line in (f"f = {taken}", f"told(1, {taken})", f"told(key={taken})", f"x = [{taken}]",
+                         f"({taken} if n else None)(1)", f"{taken}.size", f"told(lambda: {taken})"):
+                other = ast.parse(f"def hand(self, box, rows, n):\n    {line}\n")
+                self.assertEqual(handed_on({"box": box, "other": other}), [("other", 2, name)], line)
+        for line in ("self.step(1)", "box.start()", "rows.append(self.index)", "f = self.low", "told(box.low)",
+                     "self.index = box.count(1)", "self.index += 1", "step = 1", "told(step)"):
+            other = ast.parse(f"def hand(self, box, rows, step):\n    {line}\n")
+            self.assertEqual(handed_on({"box": box, "other": other}), [], line)
 
     def test_strings_l17_l27(self):
         known = docstrings()

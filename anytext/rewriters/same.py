@@ -101,7 +101,7 @@ class Pairs:
         other = 0 if self.other_live[0] else None
         return self.key(state, other, self.first.lead, self.second.lead)
 
-    def step(self, key, index):
+    def key_behind(self, key, index):
         """Returns the key behind the letter with this index."""
         state, text = _way(self.first, self.live, key[0], index)
         other, other_text = _way(self.second, self.other_live, key[1], index)
@@ -117,7 +117,7 @@ class Pairs:
 
     def least_difference(self):
         """Returns the least text with which the two do not do the same, or None."""
-        return least_way(self.first.letters, self.start(), self.step, self.differ)
+        return least_way(self.first.letters, self.start(), self.key_behind, self.differ)
 
     def paper(self):
         """Returns a paper for two that do the same, when all pairs were gone through."""
